@@ -11,6 +11,7 @@ import (
 
 	"tangram/api"
 	"tangram/nums"
+	"tangram/probe"
 )
 
 // answer is what Scan answers, as one thing.
@@ -86,22 +87,6 @@ func ascii(b []byte) []byte {
 	return out
 }
 
-// texts: all texts of at most so many of these bytes.
-func texts(alphabet string, most int) []string {
-	all := []string{""}
-	from := 0
-	for range most {
-		to := len(all)
-		for _, s := range all[from:to] {
-			for i := range len(alphabet) {
-				all = append(all, s+alphabet[i:i+1])
-			}
-		}
-		from = to
-	}
-	return all
-}
-
 func TestScanOfExamples(t *testing.T) {
 	for s, want := range map[string]answer{
 		"":                       right(end(0)),
@@ -165,7 +150,7 @@ func TestScanOfEveryByte(t *testing.T) {
 }
 
 func TestScanOfAllShortTexts(t *testing.T) {
-	for _, s := range texts("01 \nx", 6) {
+	for _, s := range probe.Texts("01 \nx", 6) {
 		if got, want := scan([]byte(s)), said([]byte(s)); !got.same(want) {
 			t.Fatalf("P1.1: Scan(%q): %v, want %v", s, got, want)
 		}
@@ -353,7 +338,7 @@ func TestThereAndBackAtTheLimit(t *testing.T) {
 
 func TestTwoTextsWithALineBetween(t *testing.T) {
 	var whole []string
-	for _, s := range texts("07 \t\n", 4) {
+	for _, s := range probe.Texts("07 \t\n", 4) {
 		if scan([]byte(s)).code == api.OK {
 			whole = append(whole, s)
 		}
@@ -375,7 +360,7 @@ func TestTwoTextsWithALineBetween(t *testing.T) {
 }
 
 func TestTokensLieOneBehindTheOther(t *testing.T) {
-	for _, s := range append(texts("05 \t\r\n", 5), "  12\t345 \r\n\n 6789\r\r", nums.Line(1, 22, 333)+" \n4") {
+	for _, s := range append(probe.Texts("05 \t\r\n", 5), "  12\t345 \r\n\n 6789\r\r", nums.Line(1, 22, 333)+" \n4") {
 		got := scan([]byte(s))
 		if got.code != api.OK {
 			continue
