@@ -3,16 +3,9 @@ package probe
 
 // Texts: all texts of at most so many of these bytes, the shortest first.
 func Texts(alphabet string, most int) []string {
-	all := []string{""}
-	from := 0
-	for range most {
-		to := len(all)
-		for _, text := range all[from:to] {
-			for i := range len(alphabet) {
-				all = append(all, text+alphabet[i:i+1])
-			}
-		}
-		from = to
+	var all []string
+	for _, text := range Lists([]byte(alphabet), most) {
+		all = append(all, string(text))
 	}
 	return all
 }

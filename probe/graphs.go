@@ -1,0 +1,111 @@
+package probe
+
+import "tangram/api"
+
+// Lists: all lists of at most so many of these items, the shortest first.
+func Lists[T any](items []T, most int) [][]T {
+	all := [][]T{nil}
+	from := 0
+	for range most {
+		to := len(all)
+		for _, list := range all[from:to] {
+			for _, item := range items {
+				all = append(all, append(list[:len(list):len(list)], item))
+			}
+		}
+		from = to
+	}
+	return all
+}
+
+// Graphs: all graphs of n vertices.
+func Graphs(n int) []api.Graph {
+	every := Complete(n).Edges
+	all := make([]api.Graph, 0, 1<<len(every))
+	for chosen := range 1 << len(every) {
+		g := api.Graph{N: n}
+		for i, e := range every {
+			if chosen>>i&1 == 1 {
+				g.Edges = append(g.Edges, e)
+			}
+		}
+		all = append(all, g)
+	}
+	return all
+}
+
+// Complete: n vertices, each joined to each.
+func Complete(n int) api.Graph {
+	g := api.Graph{N: n, Edges: make([]api.Edge, 0, n*(n-1)/2)}
+	for u := range n {
+		for v := u + 1; v < n; v++ {
+			g.Edges = append(g.Edges, api.Edge{U: u, V: v})
+		}
+	}
+	return g
+}
+
+// Dense: a graph of m edges on as few vertices as can have them; m may be beyond the limits.
+func Dense(m int) api.Graph {
+	n := 2
+	for n*(n-1)/2 < m {
+		n++
+	}
+	g := Complete(n)
+	g.Edges = g.Edges[:m:m]
+	return g
+}
+
+// Graph: a graph of n vertices in which each two are joined as often as k throws in a hundred say.
+func (d *Dice) Graph(n, k int) api.Graph {
+	g := api.Graph{N: n}
+	for _, e := range Complete(n).Edges {
+		if d.Below(100) < k {
+			g.Edges = append(g.Edges, e)
+		}
+	}
+	return g
+}
+
+// Invalid: graphs that aren't valid, in each way in which one may not be.
+func Invalid() []api.Graph {
+	of := func(n int, edges ...api.Edge) api.Graph { return api.Graph{N: n, Edges: edges} }
+	return []api.Graph{
+		of(-1), of(api.MaxN + 1), of(-1 << 63), of(1<<63 - 1),
+		of(-1, api.Edge{U: 0, V: 1}), of(api.MaxN+1, api.Edge{U: 0, V: 1}),
+		of(0, api.Edge{U: 0, V: 0}), of(0, api.Edge{U: 0, V: 1}), of(1, api.Edge{U: 0, V: 1}), of(3, api.Edge{U: 0, V: 3}), of(3, api.Edge{U: 3, V: 4}),
+		of(api.MaxN, api.Edge{U: 0, V: api.MaxN}), of(3, api.Edge{U: 0, V: 1<<63 - 1}), of(3, api.Edge{U: 0, V: 2}, api.Edge{U: 1, V: 3}),
+		of(3, api.Edge{U: 1, V: 0}), of(3, api.Edge{U: 2, V: 1}), of(3, api.Edge{U: 0, V: 1}, api.Edge{U: 2, V: 1}),
+		of(3, api.Edge{U: 0, V: 0}), of(3, api.Edge{U: 1, V: 1}), of(3, api.Edge{U: 0, V: 1}, api.Edge{U: 1, V: 1}),
+		of(3, api.Edge{U: -1, V: 0}), of(3, api.Edge{U: -1, V: 1}), of(3, api.Edge{U: -2, V: -1}), of(3, api.Edge{U: -1 << 63, V: 2}), of(3, api.Edge{U: 0, V: -1}),
+		of(3, api.Edge{U: 1, V: 2}, api.Edge{U: 0, V: 2}), of(4, api.Edge{U: 0, V: 3}, api.Edge{U: 0, V: 2}), of(4, api.Edge{U: 0, V: 1}, api.Edge{U: 2, V: 3}, api.Edge{U: 1, V: 3}),
+		of(2, api.Edge{U: 0, V: 1}, api.Edge{U: 0, V: 1}), of(4, api.Edge{U: 0, V: 1}, api.Edge{U: 1, V: 3}, api.Edge{U: 1, V: 3}), of(4, api.Edge{U: 0, V: 1}, api.Edge{U: 2, V: 3}, api.Edge{U: 0, V: 1}),
+		Dense(api.MaxEdges + 1),
+	}
+}
+
+// Disorder: the edges as pairs in any order, their ends changed about, with loops and doubles put between.
+func (d *Dice) Disorder(g api.Graph) [][2]int {
+	var pairs [][2]int
+	for _, e := range g.Edges {
+		for range 1 + d.Below(3)*d.Below(2) {
+			pairs = append(pairs, d.turned(e))
+		}
+	}
+	for range min(g.N, d.Below(4)) {
+		v := d.Below(g.N)
+		pairs = append(pairs, [2]int{v, v})
+	}
+	for i := len(pairs) - 1; i > 0; i-- {
+		j := d.Below(i + 1)
+		pairs[i], pairs[j] = pairs[j], pairs[i]
+	}
+	return pairs
+}
+
+func (d *Dice) turned(e api.Edge) [2]int {
+	if d.Below(2) == 0 {
+		return [2]int{e.V, e.U}
+	}
+	return [2]int{e.U, e.V}
+}
