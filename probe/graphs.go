@@ -45,6 +45,45 @@ func Complete(n int) api.Graph {
 	return g
 }
 
+// Star: n vertices, 2 or more, the one in the middle joined to each other one.
+func Star(n, middle int) api.Graph {
+	g := api.Graph{N: n, Edges: make([]api.Edge, 0, n-1)}
+	for v := range n {
+		if v != middle {
+			g.Edges = append(g.Edges, api.Edge{U: min(v, middle), V: max(v, middle)})
+		}
+	}
+	return g
+}
+
+// Path: n vertices, 1 or more, each joined to the one behind it.
+func Path(n int) api.Graph {
+	g := api.Graph{N: n, Edges: make([]api.Edge, 0, n-1)}
+	for v := range n - 1 {
+		g.Edges = append(g.Edges, api.Edge{U: v, V: v + 1})
+	}
+	return g
+}
+
+// Cycle: n vertices, 3 or more, each joined to the one behind it, the last to the first.
+func Cycle(n int) api.Graph {
+	g := api.Graph{N: n, Edges: []api.Edge{{U: 0, V: 1}, {U: 0, V: n - 1}}}
+	g.Edges = append(g.Edges, Path(n).Edges[1:]...)
+	return g
+}
+
+// Beside: graphs side by side, the vertices of each behind those of the one ahead of it.
+func Beside(parts ...api.Graph) api.Graph {
+	var g api.Graph
+	for _, part := range parts {
+		for _, e := range part.Edges {
+			g.Edges = append(g.Edges, api.Edge{U: g.N + e.U, V: g.N + e.V})
+		}
+		g.N += part.N
+	}
+	return g
+}
+
 // Dense: a graph of m edges on as few vertices as can have them; m may be beyond the limits.
 func Dense(m int) api.Graph {
 	n := 2
