@@ -11,62 +11,13 @@ import (
 	"tangram/probe"
 )
 
-func graph(n int, edges ...api.Edge) api.Graph { return api.Graph{N: n, Edges: edges} }
-
-func shown(g api.Graph) api.Graph {
-	if len(g.Edges) > 20 {
-		g.Edges = g.Edges[:20]
-	}
-	return g
-}
-
 func made(t *testing.T, g api.Graph) *csr.Adj {
 	t.Helper()
 	a, code := csr.New(g)
 	if a == nil || code != api.OK {
-		t.Fatalf("P4.1: New(%v): %v, %d", shown(g), a, code)
+		t.Fatalf("P4.1: New(%v): %v, %d", probe.Shown(g), a, code)
 	}
 	return a
-}
-
-// smallGraphs: few enough vertices that each may be asked for with each.
-func smallGraphs() []api.Graph {
-	all := []api.Graph{
-		{N: 3, Edges: []api.Edge{}},
-		graph(9, api.Edge{U: 3, V: 5}),
-		probe.Beside(probe.Complete(4), graph(2), probe.Cycle(5), probe.Path(1), probe.Star(6, 2), probe.Path(4), graph(1)),
-		probe.Beside(graph(3), probe.Complete(5), probe.Complete(5)),
-	}
-	for n := range 6 {
-		all = append(all, graph(n))
-		all = append(all, probe.Graphs(n)...)
-	}
-	for _, n := range []int{2, 3, 7, 20} {
-		all = append(all, probe.Path(n), probe.Complete(n), probe.Star(n, 0), probe.Star(n, n/2), probe.Star(n, n-1))
-	}
-	for _, n := range []int{3, 4, 7, 20} {
-		all = append(all, probe.Cycle(n))
-	}
-	d := probe.Dice(17)
-	for range 200 {
-		all = append(all, d.Graph(1+d.Below(30), d.Below(101)))
-	}
-	return all
-}
-
-// greatGraphs: those at the limits.
-func greatGraphs() []api.Graph {
-	last := api.MaxN - 1
-	return []api.Graph{
-		graph(api.MaxN),
-		graph(api.MaxN, api.Edge{U: 0, V: last}, api.Edge{U: 77, V: 78}, api.Edge{U: 77, V: last}),
-		probe.Path(api.MaxN),
-		probe.Cycle(api.MaxN),
-		probe.Star(api.MaxN, 0),
-		probe.Star(api.MaxN, api.MaxN/2),
-		probe.Star(api.MaxN, last),
-		probe.Dense(api.MaxEdges),
-	}
 }
 
 // ends: where a half-edge begins and leads to, as the words have it.
@@ -108,17 +59,17 @@ func atVertices(t *testing.T, a *csr.Adj, g api.Graph, out [][]int) {
 	t.Helper()
 	for v, want := range out {
 		if got := slices.Collect(a.Out(v)); !slices.Equal(got, want) {
-			t.Fatalf("P4.1: Out(%d) of %v: %v, want %v", v, shown(g), got, want)
+			t.Fatalf("P4.1: Out(%d) of %v: %v, want %v", v, probe.Shown(g), got, want)
 		}
 		if got := a.Degree(v); got != len(want) {
-			t.Fatalf("P4.1: Degree(%d) of %v: %d, want %d", v, shown(g), got, len(want))
+			t.Fatalf("P4.1: Degree(%d) of %v: %d, want %d", v, probe.Shown(g), got, len(want))
 		}
 		first := -1
 		if len(want) > 0 {
 			first = want[0]
 		}
 		if got := a.First(v); got != first {
-			t.Fatalf("P4.1: First(%d) of %v: %d, want %d", v, shown(g), got, first)
+			t.Fatalf("P4.1: First(%d) of %v: %d, want %d", v, probe.Shown(g), got, first)
 		}
 	}
 }
@@ -129,10 +80,10 @@ func atHalves(t *testing.T, a *csr.Adj, g api.Graph, out [][]int) {
 	for h := range 2 * len(g.Edges) {
 		from, to := ends(g, h)
 		if a.From(h) != from || a.To(h) != to {
-			t.Fatalf("P4.1: From(%d), To(%d) of %v: %d, %d, want %d, %d", h, h, shown(g), a.From(h), a.To(h), from, to)
+			t.Fatalf("P4.1: From(%d), To(%d) of %v: %d, %d, want %d, %d", h, h, probe.Shown(g), a.From(h), a.To(h), from, to)
 		}
 		if got, ok := a.Half(from, to); got != h || !ok {
-			t.Fatalf("P4.1: Half(%d, %d) of %v: %d, %v, want %d", from, to, shown(g), got, ok, h)
+			t.Fatalf("P4.1: Half(%d, %d) of %v: %d, %v, want %d", from, to, probe.Shown(g), got, ok, h)
 		}
 	}
 	for _, list := range out {
@@ -142,7 +93,7 @@ func atHalves(t *testing.T, a *csr.Adj, g api.Graph, out [][]int) {
 				after = list[i+1]
 			}
 			if got := a.After(h); got != after {
-				t.Fatalf("P4.1: After(%d) of %v: %d, want %d", h, shown(g), got, after)
+				t.Fatalf("P4.1: After(%d) of %v: %d, want %d", h, probe.Shown(g), got, after)
 			}
 		}
 	}
@@ -157,10 +108,10 @@ func nowhere(t *testing.T, a *csr.Adj, g api.Graph) {
 		}
 		out := a.Out(v)
 		if out == nil {
-			t.Fatalf("R7: Out(%d) of %v is nil", v, shown(g))
+			t.Fatalf("R7: Out(%d) of %v is nil", v, probe.Shown(g))
 		}
 		if got := slices.Collect(out); len(got) != 0 || a.Degree(v) != 0 || a.First(v) != -1 {
-			t.Fatalf("P4.1: no vertex %d of %v: Out %v, Degree %d, First %d", v, shown(g), got, a.Degree(v), a.First(v))
+			t.Fatalf("P4.1: no vertex %d of %v: Out %v, Degree %d, First %d", v, probe.Shown(g), got, a.Degree(v), a.First(v))
 		}
 		for _, u := range append(noVertices(g.N), 0, 1, g.N-1, g.N/2) {
 			apart(t, a, g, u, v)
@@ -171,7 +122,7 @@ func nowhere(t *testing.T, a *csr.Adj, g api.Graph) {
 			continue
 		}
 		if a.From(h) != -1 || a.To(h) != -1 || a.After(h) != -1 {
-			t.Fatalf("P4.1: no half-edge %d of %v: From %d, To %d, After %d", h, shown(g), a.From(h), a.To(h), a.After(h))
+			t.Fatalf("P4.1: no half-edge %d of %v: From %d, To %d, After %d", h, probe.Shown(g), a.From(h), a.To(h), a.After(h))
 		}
 	}
 }
@@ -181,7 +132,7 @@ func apart(t *testing.T, a *csr.Adj, g api.Graph, u, v int) {
 	t.Helper()
 	for _, p := range [][2]int{{u, v}, {v, u}} {
 		if h, ok := a.Half(p[0], p[1]); h != 0 || ok {
-			t.Fatalf("P4.1: Half(%d, %d) of %v: %d, %v", p[0], p[1], shown(g), h, ok)
+			t.Fatalf("P4.1: Half(%d, %d) of %v: %d, %v", p[0], p[1], probe.Shown(g), h, ok)
 		}
 	}
 }
@@ -190,7 +141,7 @@ func apart(t *testing.T, a *csr.Adj, g api.Graph, u, v int) {
 func agrees(t *testing.T, a *csr.Adj, g api.Graph) {
 	t.Helper()
 	if a.N() != g.N || a.M() != len(g.Edges) {
-		t.Fatalf("P4.1: N, M of %v: %d, %d, want %d, %d", shown(g), a.N(), a.M(), g.N, len(g.Edges))
+		t.Fatalf("P4.1: N, M of %v: %d, %d, want %d, %d", probe.Shown(g), a.N(), a.M(), g.N, len(g.Edges))
 	}
 	out := orders(g)
 	atVertices(t, a, g, out)
@@ -199,7 +150,7 @@ func agrees(t *testing.T, a *csr.Adj, g api.Graph) {
 }
 
 func TestExamples(t *testing.T) {
-	g := graph(4, api.Edge{U: 0, V: 1}, api.Edge{U: 0, V: 2}, api.Edge{U: 1, V: 2})
+	g := probe.With(4, api.Edge{U: 0, V: 1}, api.Edge{U: 0, V: 2}, api.Edge{U: 1, V: 2})
 	a := made(t, g)
 	agrees(t, a, g)
 	for v, want := range map[int][]int{0: {0, 2}, 1: {1, 4}, 2: {3, 5}, 3: nil, 4: nil, -1: nil} {
@@ -228,7 +179,7 @@ func TestExamples(t *testing.T) {
 }
 
 func TestSmallGraphs(t *testing.T) {
-	for _, g := range smallGraphs() {
+	for _, g := range probe.Small() {
 		a := made(t, g)
 		agrees(t, a, g)
 		joined := map[[2]int]int{}
@@ -248,7 +199,7 @@ func TestSmallGraphs(t *testing.T) {
 }
 
 func TestGreatGraphs(t *testing.T) {
-	for _, g := range greatGraphs() {
+	for _, g := range probe.Great() {
 		a := made(t, g)
 		agrees(t, a, g)
 		for _, v := range []int{0, 1, g.N / 2, g.N - 2, g.N - 1} {
@@ -283,34 +234,34 @@ func once(t *testing.T, a *csr.Adj, g api.Graph) {
 		count, last, next := 0, -1, a.First(v)
 		for h := range a.Out(v) {
 			if a.From(h) != v || a.To(h) <= last || h != next {
-				t.Fatalf("P4.2: Out(%d) of %v gives %d, from %d to %d, behind one to %d; After gives %d", v, shown(g), h, a.From(h), a.To(h), last, next)
+				t.Fatalf("P4.2: Out(%d) of %v gives %d, from %d to %d, behind one to %d; After gives %d", v, probe.Shown(g), h, a.From(h), a.To(h), last, next)
 			}
 			seen[h]++
 			count, last, next = count+1, a.To(h), a.After(h)
 		}
 		if next != -1 || count != a.Degree(v) {
-			t.Fatalf("P4.2: Out(%d) of %v gives %d half-edges, the degree is %d; After goes on with %d", v, shown(g), count, a.Degree(v), next)
+			t.Fatalf("P4.2: Out(%d) of %v gives %d half-edges, the degree is %d; After goes on with %d", v, probe.Shown(g), count, a.Degree(v), next)
 		}
 		sum += a.Degree(v)
 	}
 	for h, times := range seen {
 		if times != 1 {
-			t.Fatalf("P4.2: %d of %v is given %d times", h, shown(g), times)
+			t.Fatalf("P4.2: %d of %v is given %d times", h, probe.Shown(g), times)
 		}
 	}
 	if sum != 2*a.M() || a.M() != len(g.Edges) {
-		t.Fatalf("P4.3: the sum of the degrees of %v is %d, M is %d", shown(g), sum, a.M())
+		t.Fatalf("P4.3: the sum of the degrees of %v is %d, M is %d", probe.Shown(g), sum, a.M())
 	}
 }
 
 func TestEachHalfEdgeOnce(t *testing.T) {
-	for _, g := range smallGraphs() {
+	for _, g := range probe.Small() {
 		once(t, made(t, g), g)
 	}
 }
 
 func TestTwins(t *testing.T) {
-	for _, g := range smallGraphs() {
+	for _, g := range probe.Small() {
 		a := made(t, g)
 		for h := range 2 * len(g.Edges) {
 			if a.From(h) != a.To(h^1) || a.To(h) != a.From(h^1) || a.From(h) == a.To(h) {
@@ -326,17 +277,17 @@ func TestTwins(t *testing.T) {
 func TestGraphsThatAreNotValid(t *testing.T) {
 	for _, g := range probe.Invalid() {
 		if a, code := csr.New(g); a != nil || code != api.ErrGraph {
-			t.Errorf("P4.1: New(%v): %v, %d", shown(g), a, code)
+			t.Errorf("P4.1: New(%v): %v, %d", probe.Shown(g), a, code)
 		}
 	}
-	if a, code := csr.New(graph(2, api.Edge{U: 1, V: 0})); a != nil || code != api.ErrGraph {
+	if a, code := csr.New(probe.With(2, api.Edge{U: 1, V: 0})); a != nil || code != api.ErrGraph {
 		t.Errorf("P4.1: New of the example: %v, %d", a, code)
 	}
 }
 
 func TestNil(t *testing.T) {
 	var none *csr.Adj
-	for _, a := range []*csr.Adj{none, made(t, graph(0))} {
+	for _, a := range []*csr.Adj{none, made(t, probe.With(0))} {
 		if a.N() != 0 || a.M() != 0 {
 			t.Errorf("R6: N, M: %d, %d", a.N(), a.M())
 		}
@@ -352,7 +303,7 @@ func TestNil(t *testing.T) {
 				t.Errorf("R6: %d: From %d, To %d, After %d", x, a.From(x), a.To(x), a.After(x))
 			}
 			for _, y := range []int{0, 1, -1, x, math.MinInt64, math.MaxInt64} {
-				apart(t, a, graph(0), x, y)
+				apart(t, a, probe.With(0), x, y)
 			}
 		}
 	}
@@ -372,7 +323,7 @@ func leave(out iter.Seq[int], wanted int) (got []int, more int) {
 }
 
 func TestOutIsLeft(t *testing.T) {
-	for _, g := range smallGraphs() {
+	for _, g := range probe.Small() {
 		a := made(t, g)
 		for v, want := range orders(g) {
 			out := a.Out(v)
@@ -389,7 +340,7 @@ func TestOutIsLeft(t *testing.T) {
 }
 
 func TestOutIsGoneOverOften(t *testing.T) {
-	for _, g := range smallGraphs() {
+	for _, g := range probe.Small() {
 		a := made(t, g)
 		for v, want := range orders(g) {
 			out := a.Out(v)
@@ -435,8 +386,8 @@ func TestOutsSideBySide(t *testing.T) {
 }
 
 func TestGraphIsNotKept(t *testing.T) {
-	for _, g := range smallGraphs() {
-		own := graph(g.N, slices.Clone(g.Edges)...)
+	for _, g := range probe.Small() {
+		own := probe.With(g.N, slices.Clone(g.Edges)...)
 		a := made(t, own)
 		var early []iter.Seq[int]
 		for v := range g.N {
@@ -458,7 +409,7 @@ func TestGraphIsNotChanged(t *testing.T) {
 	edges := []api.Edge{{U: 0, V: 1}, {U: 1, V: 3}, {U: 2, V: 3}, {U: 9, V: 1}, {U: 0, V: 0}}
 	before := slices.Clone(edges)
 	for to := range len(edges) + 1 {
-		g := graph(4, edges[:to]...)
+		g := probe.With(4, edges[:to]...)
 		a, _ := csr.New(g)
 		for x := -1; x < 9; x++ {
 			a.Degree(x)
@@ -476,7 +427,7 @@ func TestGraphIsNotChanged(t *testing.T) {
 }
 
 func TestAdjsHangOnTheirGraphsAlone(t *testing.T) {
-	all := smallGraphs()
+	all := probe.Small()
 	var adjs []*csr.Adj
 	for _, g := range all {
 		adjs = append(adjs, made(t, g))

@@ -18,6 +18,9 @@ func Lists[T any](items []T, most int) [][]T {
 	return all
 }
 
+// With: a graph as it is told, valid or not.
+func With(n int, edges ...api.Edge) api.Graph { return api.Graph{N: n, Edges: edges} }
+
 // Graphs: all graphs of n vertices.
 func Graphs(n int) []api.Graph {
 	every := Complete(n).Edges
@@ -106,19 +109,66 @@ func (d *Dice) Graph(n, k int) api.Graph {
 	return g
 }
 
+// Small: few enough vertices that each may be asked for with each.
+func Small() []api.Graph {
+	all := []api.Graph{
+		{N: 3, Edges: []api.Edge{}},
+		With(9, api.Edge{U: 3, V: 5}),
+		Beside(Complete(4), With(2), Cycle(5), Path(1), Star(6, 2), Path(4), With(1)),
+		Beside(With(3), Complete(5), Complete(5)),
+	}
+	for n := range 6 {
+		all = append(all, With(n))
+		all = append(all, Graphs(n)...)
+	}
+	for _, n := range []int{2, 3, 7, 20} {
+		all = append(all, Path(n), Complete(n), Star(n, 0), Star(n, n/2), Star(n, n-1))
+	}
+	for _, n := range []int{3, 4, 7, 20} {
+		all = append(all, Cycle(n))
+	}
+	d := Dice(17)
+	for range 200 {
+		all = append(all, d.Graph(1+d.Below(30), d.Below(101)))
+	}
+	return all
+}
+
+// Great: those at the limits.
+func Great() []api.Graph {
+	last := api.MaxN - 1
+	return []api.Graph{
+		With(api.MaxN),
+		With(api.MaxN, api.Edge{U: 0, V: last}, api.Edge{U: 77, V: 78}, api.Edge{U: 77, V: last}),
+		Path(api.MaxN),
+		Cycle(api.MaxN),
+		Star(api.MaxN, 0),
+		Star(api.MaxN, api.MaxN/2),
+		Star(api.MaxN, last),
+		Dense(api.MaxEdges),
+	}
+}
+
+// Shown: a graph short enough for a message.
+func Shown(g api.Graph) api.Graph {
+	if len(g.Edges) > 20 {
+		g.Edges = g.Edges[:20]
+	}
+	return g
+}
+
 // Invalid: graphs that aren't valid, in each way in which one may not be.
 func Invalid() []api.Graph {
-	of := func(n int, edges ...api.Edge) api.Graph { return api.Graph{N: n, Edges: edges} }
 	return []api.Graph{
-		of(-1), of(api.MaxN + 1), of(-1 << 63), of(1<<63 - 1),
-		of(-1, api.Edge{U: 0, V: 1}), of(api.MaxN+1, api.Edge{U: 0, V: 1}),
-		of(0, api.Edge{U: 0, V: 0}), of(0, api.Edge{U: 0, V: 1}), of(1, api.Edge{U: 0, V: 1}), of(3, api.Edge{U: 0, V: 3}), of(3, api.Edge{U: 3, V: 4}),
-		of(api.MaxN, api.Edge{U: 0, V: api.MaxN}), of(3, api.Edge{U: 0, V: 1<<63 - 1}), of(3, api.Edge{U: 0, V: 2}, api.Edge{U: 1, V: 3}),
-		of(3, api.Edge{U: 1, V: 0}), of(3, api.Edge{U: 2, V: 1}), of(3, api.Edge{U: 0, V: 1}, api.Edge{U: 2, V: 1}),
-		of(3, api.Edge{U: 0, V: 0}), of(3, api.Edge{U: 1, V: 1}), of(3, api.Edge{U: 0, V: 1}, api.Edge{U: 1, V: 1}),
-		of(3, api.Edge{U: -1, V: 0}), of(3, api.Edge{U: -1, V: 1}), of(3, api.Edge{U: -2, V: -1}), of(3, api.Edge{U: -1 << 63, V: 2}), of(3, api.Edge{U: 0, V: -1}),
-		of(3, api.Edge{U: 1, V: 2}, api.Edge{U: 0, V: 2}), of(4, api.Edge{U: 0, V: 3}, api.Edge{U: 0, V: 2}), of(4, api.Edge{U: 0, V: 1}, api.Edge{U: 2, V: 3}, api.Edge{U: 1, V: 3}),
-		of(2, api.Edge{U: 0, V: 1}, api.Edge{U: 0, V: 1}), of(4, api.Edge{U: 0, V: 1}, api.Edge{U: 1, V: 3}, api.Edge{U: 1, V: 3}), of(4, api.Edge{U: 0, V: 1}, api.Edge{U: 2, V: 3}, api.Edge{U: 0, V: 1}),
+		With(-1), With(api.MaxN + 1), With(-1 << 63), With(1<<63 - 1),
+		With(-1, api.Edge{U: 0, V: 1}), With(api.MaxN+1, api.Edge{U: 0, V: 1}),
+		With(0, api.Edge{U: 0, V: 0}), With(0, api.Edge{U: 0, V: 1}), With(1, api.Edge{U: 0, V: 1}), With(3, api.Edge{U: 0, V: 3}), With(3, api.Edge{U: 3, V: 4}),
+		With(api.MaxN, api.Edge{U: 0, V: api.MaxN}), With(3, api.Edge{U: 0, V: 1<<63 - 1}), With(3, api.Edge{U: 0, V: 2}, api.Edge{U: 1, V: 3}),
+		With(3, api.Edge{U: 1, V: 0}), With(3, api.Edge{U: 2, V: 1}), With(3, api.Edge{U: 0, V: 1}, api.Edge{U: 2, V: 1}),
+		With(3, api.Edge{U: 0, V: 0}), With(3, api.Edge{U: 1, V: 1}), With(3, api.Edge{U: 0, V: 1}, api.Edge{U: 1, V: 1}),
+		With(3, api.Edge{U: -1, V: 0}), With(3, api.Edge{U: -1, V: 1}), With(3, api.Edge{U: -2, V: -1}), With(3, api.Edge{U: -1 << 63, V: 2}), With(3, api.Edge{U: 0, V: -1}),
+		With(3, api.Edge{U: 1, V: 2}, api.Edge{U: 0, V: 2}), With(4, api.Edge{U: 0, V: 3}, api.Edge{U: 0, V: 2}), With(4, api.Edge{U: 0, V: 1}, api.Edge{U: 2, V: 3}, api.Edge{U: 1, V: 3}),
+		With(2, api.Edge{U: 0, V: 1}, api.Edge{U: 0, V: 1}), With(4, api.Edge{U: 0, V: 1}, api.Edge{U: 1, V: 3}, api.Edge{U: 1, V: 3}), With(4, api.Edge{U: 0, V: 1}, api.Edge{U: 2, V: 3}, api.Edge{U: 0, V: 1}),
 		Dense(api.MaxEdges + 1),
 	}
 }
