@@ -248,21 +248,6 @@ func alike(t *testing.T, s, other *comps.Sets, n int, pairs [][2]int) {
 	}
 }
 
-// orders: a list in all its orders.
-func orders(pairs [][2]int) [][][2]int {
-	if len(pairs) == 0 {
-		return [][][2]int{nil}
-	}
-	var all [][][2]int
-	for i := range pairs {
-		rest := slices.Delete(slices.Clone(pairs), i, i+1)
-		for _, order := range orders(rest) {
-			all = append(all, append(order, pairs[i]))
-		}
-	}
-	return all
-}
-
 // turned: each pair the other way round, if its digit of ways is 1.
 func turned(pairs [][2]int, ways int) [][2]int {
 	list := slices.Clone(pairs)
@@ -287,7 +272,7 @@ func TestOrderOfJoins(t *testing.T) {
 		if s.Count() != g.N-count {
 			t.Fatalf("P5.2: %v: Count %d behind %d joins", pairs, s.Count(), count)
 		}
-		for k, order := range orders(pairs) {
+		for k, order := range probe.Arranged(pairs) {
 			for _, ways := range []int{0, k, 31} {
 				other, others := joined(t, g.N, turned(order, ways))
 				alike(t, s, other, g.N, order)

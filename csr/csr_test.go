@@ -20,32 +20,6 @@ func made(t *testing.T, g api.Graph) *csr.Adj {
 	return a
 }
 
-// ends: where a half-edge begins and leads to, as the words have it.
-func ends(g api.Graph, h int) (from, to int) {
-	e := g.Edges[h/2]
-	if h%2 == 0 {
-		return e.U, e.V
-	}
-	return e.V, e.U
-}
-
-// orders: by vertex the half-edges that leave it, sorted by where they lead to.
-func orders(g api.Graph) [][]int {
-	out := make([][]int, g.N)
-	for h := range 2 * len(g.Edges) {
-		from, _ := ends(g, h)
-		out[from] = append(out[from], h)
-	}
-	for _, list := range out {
-		slices.SortFunc(list, func(h, k int) int {
-			_, x := ends(g, h)
-			_, y := ends(g, k)
-			return x - y
-		})
-	}
-	return out
-}
-
 func noVertices(n int) []int {
 	return []int{-1, -2, n, n + 1, -n - 1, api.MaxN, math.MinInt64, math.MinInt64 + 1, math.MaxInt64, math.MaxInt64 - 1}
 }
@@ -78,7 +52,7 @@ func atVertices(t *testing.T, a *csr.Adj, g api.Graph, out [][]int) {
 func atHalves(t *testing.T, a *csr.Adj, g api.Graph, out [][]int) {
 	t.Helper()
 	for h := range 2 * len(g.Edges) {
-		from, to := ends(g, h)
+		from, to := probe.Ends(g, h)
 		if a.From(h) != from || a.To(h) != to {
 			t.Fatalf("P4.1: From(%d), To(%d) of %v: %d, %d, want %d, %d", h, h, probe.Shown(g), a.From(h), a.To(h), from, to)
 		}
@@ -143,7 +117,7 @@ func agrees(t *testing.T, a *csr.Adj, g api.Graph) {
 	if a.N() != g.N || a.M() != len(g.Edges) {
 		t.Fatalf("P4.1: N, M of %v: %d, %d, want %d, %d", probe.Shown(g), a.N(), a.M(), g.N, len(g.Edges))
 	}
-	out := orders(g)
+	out := probe.Leaving(g)
 	atVertices(t, a, g, out)
 	atHalves(t, a, g, out)
 	nowhere(t, a, g)
@@ -184,7 +158,7 @@ func TestSmallGraphs(t *testing.T) {
 		agrees(t, a, g)
 		joined := map[[2]int]int{}
 		for h := range 2 * len(g.Edges) {
-			from, to := ends(g, h)
+			from, to := probe.Ends(g, h)
 			joined[[2]int{from, to}] = h
 		}
 		for u := -1; u <= g.N; u++ {
@@ -325,7 +299,7 @@ func leave(out iter.Seq[int], wanted int) (got []int, more int) {
 func TestOutIsLeft(t *testing.T) {
 	for _, g := range probe.Small() {
 		a := made(t, g)
-		for v, want := range orders(g) {
+		for v, want := range probe.Leaving(g) {
 			out := a.Out(v)
 			for to := 1; to <= len(want); to++ {
 				if got, more := leave(out, to); !slices.Equal(got, want[:to]) || more != 0 {
@@ -342,7 +316,7 @@ func TestOutIsLeft(t *testing.T) {
 func TestOutIsGoneOverOften(t *testing.T) {
 	for _, g := range probe.Small() {
 		a := made(t, g)
-		for v, want := range orders(g) {
+		for v, want := range probe.Leaving(g) {
 			out := a.Out(v)
 			for range 3 {
 				if got := slices.Collect(out); !slices.Equal(got, want) {
@@ -397,7 +371,7 @@ func TestGraphIsNotKept(t *testing.T) {
 			own.Edges[i] = api.Edge{U: -9, V: math.MaxInt64}
 		}
 		agrees(t, a, g)
-		for v, want := range orders(g) {
+		for v, want := range probe.Leaving(g) {
 			if got := slices.Collect(early[v]); !slices.Equal(got, want) {
 				t.Fatalf("P4.4: Out(%d) of %v, asked for ahead: %v, want %v", v, g, got, want)
 			}

@@ -185,11 +185,7 @@ func (d *Dice) Disorder(g api.Graph) [][2]int {
 		v := d.Below(g.N)
 		pairs = append(pairs, [2]int{v, v})
 	}
-	for i := len(pairs) - 1; i > 0; i-- {
-		j := d.Below(i + 1)
-		pairs[i], pairs[j] = pairs[j], pairs[i]
-	}
-	return pairs
+	return Mixed(d, pairs)
 }
 
 func (d *Dice) turned(e api.Edge) [2]int {
