@@ -58,7 +58,7 @@ func TestArgumentsUnchanged(t *testing.T) {
 		own := api.Graph{N: g.N, Edges: edges}
 		f := d.Forest(g)
 		if round%2 == 1 {
-			f = spoiled(&d, g, f)
+			f = d.Spoiled(g, f)
 		}
 		roomyForest, lists := wholes(f)
 		walked(t, own)

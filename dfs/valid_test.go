@@ -391,36 +391,6 @@ func TestAllTreesOfFour(t *testing.T) {
 	}
 }
 
-// spoiled: the forest with a number or two changed, or a list's length.
-func spoiled(d *probe.Dice, g api.Graph, f api.Forest) api.Forest {
-	f = probe.CopyForest(f)
-	lists := []*[]int{&f.Parent, &f.Height, &f.Order, &f.Orient}
-	for range 1 + d.Below(2) {
-		list := lists[d.Below(4)]
-		if len(*list) == 0 || d.Below(20) == 0 {
-			*list = append(*list, d.Below(3)-1)
-			continue
-		}
-		at := d.Below(len(*list))
-		switch d.Below(6) {
-		case 0:
-			(*list)[at] ^= 1
-		case 1:
-			other := d.Below(len(*list))
-			(*list)[at], (*list)[other] = (*list)[other], (*list)[at]
-		case 2:
-			(*list)[at]++
-		case 3:
-			(*list)[at]--
-		case 4:
-			(*list)[at] = d.Below(2*len(g.Edges)+3) - 2
-		default:
-			(*list)[at] = []int{math.MinInt64, math.MaxInt64, -1, -2, g.N, 2 * len(g.Edges)}[d.Below(6)]
-		}
-	}
-	return f
-}
-
 func TestForestsWithNumbersChanged(t *testing.T) {
 	d := probe.Dice(72)
 	right := 0
@@ -428,7 +398,7 @@ func TestForestsWithNumbersChanged(t *testing.T) {
 		g := d.Graph(1+d.Below(9), 10+d.Below(80))
 		f := d.Forest(g)
 		for range 8 {
-			if agrees(t, g, spoiled(&d, g, f)) {
+			if agrees(t, g, d.Spoiled(g, f)) {
 				right++
 			}
 		}

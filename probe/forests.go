@@ -2,6 +2,7 @@ package probe
 
 import (
 	"cmp"
+	"math"
 	"slices"
 
 	"tangram/api"
@@ -108,6 +109,36 @@ func SameForest(a, b api.Forest) bool {
 // CopyForest: the same numbers in lists of their own.
 func CopyForest(f api.Forest) api.Forest {
 	return api.Forest{Parent: slices.Clone(f.Parent), Height: slices.Clone(f.Height), Order: slices.Clone(f.Order), Orient: slices.Clone(f.Orient)}
+}
+
+// Spoiled: the forest with a number or two changed, or a list's length.
+func (d *Dice) Spoiled(g api.Graph, f api.Forest) api.Forest {
+	f = CopyForest(f)
+	lists := []*[]int{&f.Parent, &f.Height, &f.Order, &f.Orient}
+	for range 1 + d.Below(2) {
+		list := lists[d.Below(4)]
+		if len(*list) == 0 || d.Below(20) == 0 {
+			*list = append(*list, d.Below(3)-1)
+			continue
+		}
+		at := d.Below(len(*list))
+		switch d.Below(6) {
+		case 0:
+			(*list)[at] ^= 1
+		case 1:
+			other := d.Below(len(*list))
+			(*list)[at], (*list)[other] = (*list)[other], (*list)[at]
+		case 2:
+			(*list)[at]++
+		case 3:
+			(*list)[at]--
+		case 4:
+			(*list)[at] = d.Below(2*len(g.Edges)+3) - 2
+		default:
+			(*list)[at] = []int{math.MinInt64, math.MaxInt64, -1, -2, g.N, 2 * len(g.Edges)}[d.Below(6)]
+		}
+	}
+	return f
 }
 
 // Rising: the numbers from 0 to n - 1.
