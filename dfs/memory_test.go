@@ -33,19 +33,13 @@ func TestNilAndEmpty(t *testing.T) {
 	}
 }
 
-// roomy: the list with spare room that is filled, and the whole with that room.
-func roomy[T any](items []T, spare T) (list, whole []T) {
-	whole = append(slices.Clone(items), spare, spare, spare)
-	return whole[:len(items)], whole
-}
-
 // wholes: the forest in lists with spare room, and those lists with their room.
 func wholes(f api.Forest) (api.Forest, [4][]int) {
 	var whole [4][]int
-	f.Parent, whole[0] = roomy(f.Parent, 0)
-	f.Height, whole[1] = roomy(f.Height, 1)
-	f.Order, whole[2] = roomy(f.Order, 2)
-	f.Orient, whole[3] = roomy(f.Orient, 3)
+	f.Parent, whole[0] = probe.Roomy(f.Parent, 0)
+	f.Height, whole[1] = probe.Roomy(f.Height, 1)
+	f.Order, whole[2] = probe.Roomy(f.Order, 2)
+	f.Orient, whole[3] = probe.Roomy(f.Orient, 3)
 	return f, whole
 }
 
@@ -53,7 +47,7 @@ func TestArgumentsUnchanged(t *testing.T) {
 	d := probe.Dice(78)
 	for round := range 300 {
 		g := d.Graph(d.Below(12), d.Below(101))
-		edges, whole := roomy(g.Edges, api.Edge{U: 0, V: 1})
+		edges, whole := probe.Roomy(g.Edges, api.Edge{U: 0, V: 1})
 		before := slices.Clone(whole)
 		own := api.Graph{N: g.N, Edges: edges}
 		f := d.Forest(g)
@@ -80,15 +74,6 @@ func TestArgumentsUnchanged(t *testing.T) {
 	}
 }
 
-// spoil writes over a list, its spare room too, and appends to it.
-func spoil(list []int) {
-	room := list[:cap(list)]
-	for i := range room {
-		room[i] = -7
-	}
-	_ = append(list, -7, -7)
-}
-
 func listsOf(f api.Forest) [4][]int { return [4][]int{f.Parent, f.Height, f.Order, f.Orient} }
 
 // TestAnswersOwnMemory: each list of the walk written over and appended to, with the others, other answers and the graph as they were.
@@ -98,7 +83,7 @@ func TestAnswersOwnMemory(t *testing.T) {
 		want := listsOf(slowWalk(g))
 		for i := range 4 {
 			first, second := walked(t, g), walked(t, g)
-			spoil(listsOf(first)[i])
+			probe.Spoil(listsOf(first)[i], -7)
 			for j, list := range listsOf(first) {
 				if j != i && !slices.Equal(list, want[j]) {
 					t.Fatalf("R5: P7.4: %v: the list %d written over, and the list %d is %v, want %v", g, i, j, list, want[j])

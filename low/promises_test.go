@@ -15,7 +15,7 @@ func eachForest(t *testing.T, ask func(g api.Graph, f api.Forest)) {
 	d := probe.Dice(86)
 	graphs := probe.Small()
 	for range 100 {
-		graphs = append(graphs, thin(&d, 20+d.Below(60), d.Below(25)))
+		graphs = append(graphs, d.Thin(20+d.Below(60), d.Below(25)))
 	}
 	for _, g := range graphs {
 		ask(g, walked(t, g))

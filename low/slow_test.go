@@ -115,27 +115,10 @@ func TestAllForests(t *testing.T) {
 func TestThinGraphs(t *testing.T) {
 	d := probe.Dice(82)
 	for range 60 {
-		g := thin(&d, 20+d.Below(60), d.Below(25))
+		g := d.Thin(20+d.Below(60), d.Below(25))
 		agrees(t, g, walked(t, g))
 		agrees(t, g, d.Forest(g))
 	}
-}
-
-// thin: a tree, each vertex joined to one that is a little below it by its number, and some edges more.
-func thin(d *probe.Dice, n, more int) api.Graph {
-	pairs := d.Pairs(n, more)
-	for v := 1; v < n; v++ {
-		pairs = append(pairs, [2]int{v, max(0, v-1-d.Below(3))})
-	}
-	g := api.Graph{N: n}
-	for _, p := range pairs {
-		if p[0] != p[1] {
-			g.Edges = append(g.Edges, api.Edge{U: min(p[0], p[1]), V: max(p[0], p[1])})
-		}
-	}
-	slices.SortFunc(g.Edges, func(a, b api.Edge) int { return cmp.Or(cmp.Compare(a.U, b.U), cmp.Compare(a.V, b.V)) })
-	g.Edges = slices.Compact(g.Edges)
-	return g
 }
 
 // TestForestsWithNumbersChanged: what dfs.Valid refuses is refused, what it takes is answered.
@@ -199,7 +182,7 @@ func TestWhatIsMet(t *testing.T) {
 	}
 	d := probe.Dice(84)
 	for range 20 {
-		g := thin(&d, 40, 12)
+		g := d.Thin(40, 12)
 		c.count(g, d.Forest(g))
 	}
 	for name, count := range map[string]int{"back": c.back, "bridge": c.bridge, "one": c.one, "same": c.same, "unlike": c.unlike, "ties": c.ties, "turned": c.turned} {
@@ -213,7 +196,7 @@ func TestWhatIsMet(t *testing.T) {
 func TestReturnsOfAll(t *testing.T) {
 	d := probe.Dice(85)
 	for range 40 {
-		g := thin(&d, 30, 20)
+		g := d.Thin(30, 20)
 		f := d.Forest(g)
 		times := make([]int, len(g.Edges))
 		for e := range g.Edges {

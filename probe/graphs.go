@@ -1,6 +1,11 @@
 package probe
 
-import "tangram/api"
+import (
+	"cmp"
+	"slices"
+
+	"tangram/api"
+)
 
 // Lists: all lists of at most so many of these items, the shortest first.
 func Lists[T any](items []T, most int) [][]T {
@@ -106,6 +111,28 @@ func (d *Dice) Graph(n, k int) api.Graph {
 			g.Edges = append(g.Edges, e)
 		}
 	}
+	return g
+}
+
+// Thin: a tree, each vertex joined to one that is a little below it by its number, and some edges more.
+func (d *Dice) Thin(n, more int) api.Graph {
+	pairs := d.Pairs(n, more)
+	for v := 1; v < n; v++ {
+		pairs = append(pairs, [2]int{v, max(0, v-1-d.Below(3))})
+	}
+	return OfPairs(n, pairs)
+}
+
+// OfPairs: the graph of pairs in any order; loops and doubles are dropped.
+func OfPairs(n int, pairs [][2]int) api.Graph {
+	g := api.Graph{N: n}
+	for _, p := range pairs {
+		if p[0] != p[1] {
+			g.Edges = append(g.Edges, api.Edge{U: min(p[0], p[1]), V: max(p[0], p[1])})
+		}
+	}
+	slices.SortFunc(g.Edges, func(a, b api.Edge) int { return cmp.Or(cmp.Compare(a.U, b.U), cmp.Compare(a.V, b.V)) })
+	g.Edges = slices.Compact(g.Edges)
 	return g
 }
 
