@@ -106,7 +106,7 @@ func TestAnswersOwnMemory(t *testing.T) {
 		for e := range g.Edges {
 			list := returns(t, g, f, e)
 			probe.Spoil(list, -7)
-			if again := returns(t, g, f, e); !slices.Equal(again, slowReturns(g, f, e)) {
+			if again := returns(t, g, f, e); !slices.Equal(again, probe.Returns(g, f, e)) {
 				t.Fatalf("R5: P8.5: %v: Returns of %d written over, and again it is %v", g, e, again)
 			}
 		}
@@ -169,7 +169,7 @@ func TestSideBySide(t *testing.T) {
 			for e := range g.Edges {
 				l, code := low.Of(g, f)
 				list, code2 := low.Returns(g, f, e)
-				if code != api.OK || code2 != api.OK || !sameLow(l, want) || !slices.Equal(list, slowReturns(g, f, e)) {
+				if code != api.OK || code2 != api.OK || !sameLow(l, want) || !slices.Equal(list, probe.Returns(g, f, e)) {
 					wrong[worker] = true
 				}
 			}

@@ -11,44 +11,11 @@ import (
 	"tangram/probe"
 )
 
-// standsAbove: whether one comes from v to u by going to the parent.
-func standsAbove(g api.Graph, f api.Forest, u, v int) bool {
-	for v != u {
-		if f.Parent[v] == -1 {
-			return false
-		}
-		v, _ = probe.Ends(g, f.Parent[v])
-	}
-	return true
-}
-
-// isTree: whether the edge is a tree edge.
-func isTree(g api.Graph, f api.Forest, e int) bool {
-	_, w := probe.Ends(g, f.Orient[e])
-	return f.Parent[w] == f.Orient[e]
-}
-
-// slowReturns: the return edges in the chapter's words.
-func slowReturns(g api.Graph, f api.Forest, e int) []int {
-	if !isTree(g, f, e) {
-		return []int{e}
-	}
-	v, w := probe.Ends(g, f.Orient[e])
-	var list []int
-	for k := range g.Edges {
-		from, to := probe.Ends(g, f.Orient[k])
-		if !isTree(g, f, k) && standsAbove(g, f, w, from) && f.Height[to] < f.Height[v] {
-			list = append(list, k)
-		}
-	}
-	return list
-}
-
 // leads: where the edge leads, the set's heights rising.
 func leads(g api.Graph, f api.Forest, e int) []int {
 	v, _ := probe.Ends(g, f.Orient[e])
 	set := []int{f.Height[v]}
-	for _, k := range slowReturns(g, f, e) {
+	for _, k := range probe.Returns(g, f, e) {
 		_, to := probe.Ends(g, f.Orient[k])
 		set = append(set, f.Height[to])
 	}
@@ -86,7 +53,7 @@ func agrees(t *testing.T, g api.Graph, f api.Forest) {
 		t.Fatalf("P8.1: Of(%v, %+v): %+v, want %+v", g, f, l, want)
 	}
 	for e := range g.Edges {
-		if got, want := returns(t, g, f, e), slowReturns(g, f, e); !slices.Equal(got, want) {
+		if got, want := returns(t, g, f, e), probe.Returns(g, f, e); !slices.Equal(got, want) {
 			t.Fatalf("P8.1: Returns(%v, %+v, %d): %v, want %v", g, f, e, got, want)
 		}
 	}
@@ -148,9 +115,9 @@ type kinds struct {
 func (c *kinds) count(g api.Graph, f api.Forest) {
 	l := slowOf(g, f)
 	for e := range g.Edges {
-		list, set := slowReturns(g, f, e), leads(g, f, e)
+		list, set := probe.Returns(g, f, e), leads(g, f, e)
 		switch {
-		case !isTree(g, f, e):
+		case !probe.IsTree(g, f, e):
 			c.back++
 		case len(list) == 0:
 			c.bridge++
@@ -208,7 +175,7 @@ func TestReturnsOfAll(t *testing.T) {
 		for e, count := range times {
 			from, to := probe.Ends(g, f.Orient[e])
 			want := f.Height[from] - f.Height[to]
-			if isTree(g, f, e) {
+			if probe.IsTree(g, f, e) {
 				want = 0
 			}
 			if count != want {

@@ -101,6 +101,39 @@ func behindEach[T any](lists [][]T, items []T) [][]T {
 	return all
 }
 
+// IsTree: whether the edge is a tree edge.
+func IsTree(g api.Graph, f api.Forest, e int) bool {
+	_, w := Ends(g, f.Orient[e])
+	return f.Parent[w] == f.Orient[e]
+}
+
+// standsAbove: whether one comes from v to u by going to the parent.
+func standsAbove(g api.Graph, f api.Forest, u, v int) bool {
+	for v != u {
+		if f.Parent[v] == -1 {
+			return false
+		}
+		v, _ = Ends(g, f.Parent[v])
+	}
+	return true
+}
+
+// Returns: the return edges of an edge, rising; each back edge is asked.
+func Returns(g api.Graph, f api.Forest, e int) []int {
+	if !IsTree(g, f, e) {
+		return []int{e}
+	}
+	v, w := Ends(g, f.Orient[e])
+	var list []int
+	for k := range g.Edges {
+		from, to := Ends(g, f.Orient[k])
+		if !IsTree(g, f, k) && standsAbove(g, f, w, from) && f.Height[to] < f.Height[v] {
+			list = append(list, k)
+		}
+	}
+	return list
+}
+
 // SameForest: are all four lists the same?
 func SameForest(a, b api.Forest) bool {
 	return slices.Equal(a.Parent, b.Parent) && slices.Equal(a.Height, b.Height) && slices.Equal(a.Order, b.Order) && slices.Equal(a.Orient, b.Orient)
