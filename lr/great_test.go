@@ -19,7 +19,7 @@ func shallow() func() {
 func TestGreatWithoutConflict(t *testing.T) {
 	defer shallow()()
 	const n = api.MaxN
-	for _, g := range []api.Graph{graph(n), probe.Path(n), probe.Star(n, 0), probe.Star(n, n/2), probe.Star(n, n-1)} {
+	for _, g := range []api.Graph{probe.OfEnds(n), probe.Path(n), probe.Star(n, 0), probe.Star(n, n/2), probe.Star(n, n-1)} {
 		if p, ok := test(t, g); !ok || !slices.Equal(p, make(api.Partition, len(g.Edges))) {
 			t.Errorf("P10.2: Test(%v): %v, %d sides", probe.Shown(g), ok, len(p))
 		}

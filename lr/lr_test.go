@@ -62,86 +62,18 @@ func isPlanar(t *testing.T, name string, g api.Graph, want bool) {
 	}
 }
 
-// graph: ends two by two, as they are told.
-func graph(n int, ends ...int) api.Graph {
-	g := api.Graph{N: n}
-	for i := 0; i < len(ends); i += 2 {
-		g.Edges = append(g.Edges, api.Edge{U: ends[i], V: ends[i+1]})
-	}
-	return g
-}
-
-// known is a graph with whether it is planar, by what everybody knows.
-type known struct {
-	name string
-	g    api.Graph
-	want bool
-}
-
-func bare() []known {
-	return []known{
-		{"no vertices", graph(0), true},
-		{"one vertex", graph(1), true},
-		{"no edges", graph(3), true},
-		{"one edge", graph(2, 0, 1), true},
-		{"one edge among isolated vertices", graph(9, 3, 7), true},
-	}
-}
-
-// families: one graph of each kind and size.
-func families() []known {
-	var all []known
-	for n := 1; n < 10; n++ {
-		all = append(all, known{"a path", probe.Path(n), true}, known{"a full graph", probe.Complete(n), n < 5})
-		for a := range n {
-			all = append(all, known{"a full two-part graph", probe.TwoPart(a, n-a), min(a, n-a) < 3})
-		}
-		for middle := range n {
-			if n > 1 {
-				all = append(all, known{"a star", probe.Star(n, middle), true})
-			}
-		}
-		for m := 1; m < 10; m++ {
-			all = append(all, known{"a grid", probe.Grid(n, m), true}, known{"a slanted grid", probe.Slanted(n, m), true})
-		}
-	}
-	for n := 3; n < 12; n++ {
-		all = append(all, known{"a cycle", probe.Cycle(n), true}, known{"a wheel", probe.Wheel(n), true})
-		all = append(all, known{"a cycle with two hubs", probe.Hubs(probe.Cycle(n), 2), true}, known{"a cycle with three hubs", probe.Hubs(probe.Cycle(n), 3), false})
-		all = append(all, known{"a path with two hubs", probe.Hubs(probe.Path(n), 2), true}, known{"a path with three hubs", probe.Hubs(probe.Path(n), 3), false})
-	}
-	return all
-}
-
-// composed: several components, isolated vertices, bridges, cut vertices.
-func composed() []known {
-	return []known{
-		{"triangles side by side", probe.Beside(probe.Cycle(3), probe.Cycle(3)), true},
-		{"many side by side", probe.Beside(probe.Complete(4), graph(2), probe.Cycle(5), probe.Path(1), probe.Star(6, 2), probe.Path(4), graph(1)), true},
-		{"triangles with a bridge", graph(6, 0, 1, 0, 2, 1, 2, 2, 3, 3, 4, 3, 5, 4, 5), true},
-		{"triangles with a vertex in common", probe.Hung(probe.Cycle(3), 1, probe.Cycle(3), 0), true},
-		{"K4 hung on K4", probe.Hung(probe.Complete(4), 3, probe.Complete(4), 2), true},
-		{"the cube", graph(8, 0, 1, 0, 3, 0, 4, 1, 2, 1, 5, 2, 3, 2, 6, 3, 7, 4, 5, 4, 7, 5, 6, 6, 7), true},
-		{"eight vertices round, each joined to the one across", graph(8, 0, 1, 0, 4, 0, 7, 1, 2, 1, 5, 2, 3, 2, 6, 3, 4, 3, 7, 4, 5, 5, 6, 6, 7), false},
-		{"the octahedron", graph(6, 0, 1, 0, 2, 0, 3, 0, 4, 1, 2, 1, 4, 1, 5, 2, 3, 2, 5, 3, 4, 3, 5, 4, 5), true},
-		{"Petersen's graph", probe.Petersen(), false},
-	}
-}
-
-func all() []known { return slices.Concat(bare(), families(), composed()) }
-
 func TestKnownGraphs(t *testing.T) {
 	d := probe.Dice(101)
-	for _, c := range all() {
-		isPlanar(t, c.name, c.g, c.want)
-		isPlanar(t, c.name+", other names", d.Renamed(c.g), c.want)
+	for _, c := range probe.KnownGraphs() {
+		isPlanar(t, c.Name, c.Graph, c.Planar)
+		isPlanar(t, c.Name+", other names", d.Renamed(c.Graph), c.Planar)
 	}
 }
 
 // TestNothingToPart: a graph without edges, and one without cycles.
 func TestNothingToPart(t *testing.T) {
 	for _, n := range []int{0, 1, 2, 7} {
-		if p, ok := test(t, graph(n)); len(p) != 0 || !ok {
+		if p, ok := test(t, probe.OfEnds(n)); len(p) != 0 || !ok {
 			t.Errorf("P10.2: no edges: %v, %v", p, ok)
 		}
 	}
@@ -172,14 +104,13 @@ func saysOf(t *testing.T, g api.Graph, want func(a, b, c int) bool) {
 	t.Helper()
 	f := walked(t, g)
 	count := 0
-	partitions(g, f, func(p api.Partition) bool {
+	for p := range probe.Partitions(g, f) {
 		sides := slices.DeleteFunc(slices.Clone(p), func(side int) bool { return side == 0 })
 		if got := valid(t, g, f, p); got != want(sides[0], sides[1], sides[2]) {
 			t.Errorf("P10.1: %v: %v: %v", g, p, got)
 		}
 		count++
-		return true
-	})
+	}
 	if count != 8 {
 		t.Errorf("the test itself: %v: %d partitions", g, count)
 	}
@@ -188,20 +119,26 @@ func saysOf(t *testing.T, g api.Graph, want func(a, b, c int) bool) {
 // TestThreeBackEdges: ways from 0 on down, with three back edges, by hand.
 func TestThreeBackEdges(t *testing.T) {
 	// At 2 stand {0 2} (height 0) and {2 3}, of which {0 4} (height 0) and {1 3} (height 1) are return edges: {1 3} is above Low of {0 2}, none is above Low of {2 3}. Out of {1 2} {0 2} and {0 4} come to the height 0.
-	saysOf(t, graph(5, 0, 1, 0, 2, 0, 4, 1, 2, 1, 3, 2, 3, 3, 4), func(a, b, c int) bool { return a == b })
+	saysOf(t, probe.OfEnds(5, 0, 1, 0, 2, 0, 4, 1, 2, 1, 3, 2, 3, 3, 4), func(a, b, c int) bool { return a == b })
 	// At 3 stand {0 3} (height 0) and {3 4}, of which {1 4} (height 1) and {2 5} (height 2) are return edges: both are above Low of {0 3}.
-	saysOf(t, graph(6, 0, 1, 0, 3, 1, 2, 1, 4, 2, 3, 2, 5, 3, 4, 4, 5), func(a, b, c int) bool { return b == c })
+	saysOf(t, probe.OfEnds(6, 0, 1, 0, 3, 1, 2, 1, 4, 2, 3, 2, 5, 3, 4, 4, 5), func(a, b, c int) bool { return b == c })
 	// At 3 stand {1 3} (height 1) and {3 4}, of which {0 4} (height 0) and {2 4} (height 2) are return edges: {1 3} is above Low of {3 4}, {2 4} above Low of {1 3}.
-	saysOf(t, graph(5, 0, 1, 0, 4, 1, 2, 1, 3, 2, 3, 2, 4, 3, 4), func(a, b, c int) bool { return b != c })
+	saysOf(t, probe.OfEnds(5, 0, 1, 0, 4, 1, 2, 1, 3, 2, 3, 2, 4, 3, 4), func(a, b, c int) bool { return b != c })
 	// At 2 stand {2 3} and {2 4}; each has one return edge of height 0, {2 4} one of height 1 too.
-	saysOf(t, graph(5, 0, 1, 0, 3, 0, 4, 1, 2, 1, 4, 2, 3, 2, 4), func(a, b, c int) bool { return a == b })
+	saysOf(t, probe.OfEnds(5, 0, 1, 0, 3, 0, 4, 1, 2, 1, 4, 2, 3, 2, 4), func(a, b, c int) bool { return a == b })
 	// The same with {1 3} instead of {0 3}: it is above Low of {2 4}, nothing of {2 4} above Low of {2 3}, which is 1.
-	saysOf(t, graph(5, 0, 1, 0, 4, 1, 2, 1, 3, 1, 4, 2, 3, 2, 4), func(a, b, c int) bool { return true })
+	saysOf(t, probe.OfEnds(5, 0, 1, 0, 4, 1, 2, 1, 3, 1, 4, 2, 3, 2, 4), func(a, b, c int) bool { return true })
 }
 
-// kuratowski: the graphs that are planar without any one edge, and Petersen's, that isn't even then.
-func kuratowski() []known {
-	return []known{{"K5", probe.Complete(5), true}, {"K3,3", probe.TwoPart(3, 3), true}, {"Petersen's graph", probe.Petersen(), false}}
+// critical is a graph that isn't planar.
+type critical struct {
+	name string
+	g    api.Graph
+	want bool // is it planar without any one edge?
+}
+
+func kuratowski() []critical {
+	return []critical{{"K5", probe.Complete(5), true}, {"K3,3", probe.TwoPart(3, 3), true}, {"Petersen's graph", probe.Petersen(), false}}
 }
 
 func TestKuratowskiGraphs(t *testing.T) {
@@ -262,7 +199,7 @@ func refusedPartition(t *testing.T, g api.Graph, f api.Forest, p api.Partition) 
 
 // TestNoPartitions: lengths, and one number after the other that is none of a side.
 func TestNoPartitions(t *testing.T) {
-	graphs := []api.Graph{probe.Complete(4), probe.Cycle(5), probe.Path(3), probe.Slanted(3, 3), probe.Beside(probe.Cycle(3), graph(2), probe.Wheel(4))}
+	graphs := []api.Graph{probe.Complete(4), probe.Cycle(5), probe.Path(3), probe.Slanted(3, 3), probe.Beside(probe.Cycle(3), probe.OfEnds(2), probe.Wheel(4))}
 	for _, g := range graphs {
 		f := walked(t, g)
 		p, _ := test(t, g)
@@ -289,7 +226,7 @@ func TestNoPartitions(t *testing.T) {
 			t.Errorf("P10.1: %v: %v", g, p)
 		}
 	}
-	for _, g := range []api.Graph{graph(0), graph(4)} {
+	for _, g := range []api.Graph{probe.OfEnds(0), probe.OfEnds(4)} {
 		refusedPartition(t, g, walked(t, g), api.Partition{0})
 		refusedPartition(t, g, walked(t, g), api.Partition{1})
 	}
@@ -299,12 +236,11 @@ func TestNoPartitions(t *testing.T) {
 func TestPartitionOfAGraphThatIsNotPlanar(t *testing.T) {
 	for _, c := range kuratowski() {
 		f := walked(t, c.g)
-		partitions(c.g, f, func(p api.Partition) bool {
+		for p := range probe.Partitions(c.g, f) {
 			if valid(t, c.g, f, p) {
 				t.Fatalf("P10.1: %s: %v", c.name, p)
 			}
-			return true
-		})
+		}
 		refusedPartition(t, c.g, f, nil)
 		refusedPartition(t, c.g, f, make(api.Partition, len(c.g.Edges)))
 	}
@@ -382,7 +318,7 @@ func TestForestsThatAreNone(t *testing.T) {
 		g := d.Graph(1+d.Below(8), 10+d.Below(70))
 		f := d.Spoiled(g, d.Forest(g))
 		if dfs.Valid(g, f) {
-			agreesOn(t, slowly(g, f), thrownPartition(&d, g, f))
+			agreesOn(t, slowly(g, f), d.Partition(g, f))
 			taken++
 			continue
 		}

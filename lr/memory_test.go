@@ -29,7 +29,7 @@ func TestNilAndEmpty(t *testing.T) {
 	}
 	empty := api.Forest{Parent: []int{}, Height: []int{}, Order: []int{}, Orient: []int{}}
 	for _, f := range []api.Forest{{}, empty} {
-		if !valid(t, graph(0), f, nil) {
+		if !valid(t, probe.OfEnds(0), f, nil) {
 			t.Errorf("R4: no vertices, %+v", f)
 		}
 	}
@@ -38,7 +38,7 @@ func TestNilAndEmpty(t *testing.T) {
 // thrown: planar graphs and others.
 func thrown() []api.Graph {
 	d := probe.Dice(119)
-	graphs := []api.Graph{probe.Complete(4), probe.Complete(5), probe.TwoPart(3, 3), probe.Petersen(), probe.Wheel(5), probe.Path(4), graph(3)}
+	graphs := []api.Graph{probe.Complete(4), probe.Complete(5), probe.TwoPart(3, 3), probe.Petersen(), probe.Wheel(5), probe.Path(4), probe.OfEnds(3)}
 	for range 100 {
 		n := 3 + d.Below(12)
 		graphs = append(graphs, d.Triangles(n, n), d.Thin(n, d.Below(8)), d.Graph(n, d.Below(101)))
@@ -81,7 +81,7 @@ func TestArgumentsUnchanged(t *testing.T) {
 	d := probe.Dice(120)
 	for round, g := range thrown() {
 		f := d.Forest(g)
-		p := thrownPartition(&d, g, f)
+		p := d.Partition(g, f)
 		switch round % 4 {
 		case 1:
 			f = walked(t, g)
@@ -171,7 +171,7 @@ func TestEarlierCalls(t *testing.T) {
 	}
 	for i, g := range slices.Backward(graphs) {
 		refused(t, probe.With(2, api.Edge{U: 1, V: 0}))
-		refusedPartition(t, graph(2, 0, 1), walked(t, graph(2, 0, 1)), api.Partition{1})
+		refusedPartition(t, probe.OfEnds(2, 0, 1), walked(t, probe.OfEnds(2, 0, 1)), api.Partition{1})
 		for range 2 {
 			p, ok := test(t, roomy(g, api.Forest{}, nil).g)
 			if !slices.Equal(p, before[i]) || ok != planarBefore[i] || planar(t, g) != ok {

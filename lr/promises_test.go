@@ -30,14 +30,6 @@ func TestBothAreMet(t *testing.T) {
 	c.both(t, 300)
 }
 
-func turned(p api.Partition) api.Partition {
-	q := slices.Clone(p)
-	for e := range q {
-		q[e] *= -1
-	}
-	return q
-}
-
 // TestAllSidesTurned: P10.3, of what is valid and of what isn't, of the walk and of other forests.
 func TestAllSidesTurned(t *testing.T) {
 	d := probe.Dice(111)
@@ -45,14 +37,14 @@ func TestAllSidesTurned(t *testing.T) {
 	for _, g := range many() {
 		f := walked(t, g)
 		if p, ok := test(t, g); ok {
-			if !valid(t, g, f, turned(p)) {
+			if !valid(t, g, f, probe.SidesTurned(p)) {
 				t.Fatalf("P10.3: %v: %v is valid, all sides turned it isn't", g, p)
 			}
-			few := fewTurned(&d, p)
+			few := d.FewSidesTurned(p)
 			c.add(turnedAgrees(t, g, f, few))
 		}
 		f = d.Forest(g)
-		c.add(turnedAgrees(t, g, f, thrownPartition(&d, g, f)))
+		c.add(turnedAgrees(t, g, f, d.Partition(g, f)))
 	}
 	c.both(t, 300)
 }
@@ -60,7 +52,7 @@ func TestAllSidesTurned(t *testing.T) {
 func turnedAgrees(t *testing.T, g api.Graph, f api.Forest, p api.Partition) bool {
 	t.Helper()
 	ok := valid(t, g, f, p)
-	if valid(t, g, f, turned(p)) != ok {
+	if valid(t, g, f, probe.SidesTurned(p)) != ok {
 		t.Fatalf("P10.3: %v: %v: %v, all sides turned %v", g, p, ok, !ok)
 	}
 	return ok
@@ -75,10 +67,10 @@ func TestOtherNames(t *testing.T) {
 			isPlanar(t, "P10.4: other names", d.Renamed(g), want)
 		}
 	}
-	for _, c := range slices.Concat(kuratowski()[:2], []known{{"K5 without an edge", probe.Without(probe.Complete(5), 3), true}}) {
-		want := planar(t, c.g)
-		for _, names := range probe.Arranged(probe.Rising(c.g.N)) {
-			isPlanar(t, "P10.4: all names: "+c.name, probe.Renamed(c.g, names), want)
+	for _, g := range []api.Graph{probe.Complete(5), probe.TwoPart(3, 3), probe.Without(probe.Complete(5), 3)} {
+		want := planar(t, g)
+		for _, names := range probe.Arranged(probe.Rising(g.N)) {
+			isPlanar(t, "P10.4: all names", probe.Renamed(g, names), want)
 		}
 	}
 }

@@ -93,45 +93,17 @@ func (x words) aligned(p api.Partition) bool {
 	return true
 }
 
-// partitions: all of them, till one of them is enough.
-func partitions(g api.Graph, f api.Forest, more func(p api.Partition) bool) {
-	var back []int
-	for e := range g.Edges {
-		if !probe.IsTree(g, f, e) {
-			back = append(back, e)
-		}
-	}
-	for chosen := range 1 << len(back) {
-		p := make(api.Partition, len(g.Edges))
-		for i, e := range back {
-			p[e] = 1 - 2*(chosen>>i&1)
-		}
-		if !more(p) {
-			return
-		}
-	}
-}
-
-// thrownPartition: each back edge on a side that is thrown.
-func thrownPartition(d *probe.Dice, g api.Graph, f api.Forest) api.Partition {
-	p := make(api.Partition, len(g.Edges))
-	for e := range p {
-		if !probe.IsTree(g, f, e) {
-			p[e] = 1 - 2*d.Below(2)
-		}
-	}
-	return p
-}
-
 // hasPartition: whether one of all partitions is left-right; and one left-right and aligned.
 func (x words) hasPartition() (leftRight, aligned bool) {
-	partitions(x.g, x.f, func(p api.Partition) bool {
+	for p := range probe.Partitions(x.g, x.f) {
 		if x.leftRight(p) {
 			leftRight = true
 			aligned = x.aligned(p)
 		}
-		return !aligned
-	})
+		if aligned {
+			break
+		}
+	}
 	return leftRight, aligned
 }
 
@@ -239,10 +211,9 @@ func TestAllPartitions(t *testing.T) {
 	for n := range 6 {
 		for _, g := range probe.Graphs(n) {
 			x := slowly(g, walked(t, g))
-			partitions(g, x.f, func(p api.Partition) bool {
+			for p := range probe.Partitions(g, x.f) {
 				c.add(agreesOn(t, x, p))
-				return true
-			})
+			}
 		}
 	}
 	c.both(t, 1000)
@@ -255,10 +226,9 @@ func TestAllForests(t *testing.T) {
 		for _, g := range probe.Graphs(n) {
 			for _, f := range probe.Forests(g) {
 				x := slowly(g, f)
-				partitions(g, f, func(p api.Partition) bool {
+				for p := range probe.Partitions(g, f) {
 					c.add(agreesOn(t, x, p))
-					return true
-				})
+				}
 			}
 		}
 	}
@@ -281,10 +251,9 @@ func TestThrownForests(t *testing.T) {
 			others++
 		}
 		x := slowly(g, f)
-		partitions(g, f, func(p api.Partition) bool {
+		for p := range probe.Partitions(g, f) {
 			c.add(agreesOn(t, x, p))
-			return true
-		})
+		}
 	}
 	c.both(t, 1000)
 	if others < 300 {
@@ -303,21 +272,10 @@ func TestPlanarThrownGraphs(t *testing.T) {
 		answeredIsRight(t, x, true)
 		p, _ := test(t, g)
 		for range 20 {
-			c.add(agreesOn(t, x, fewTurned(&d, p)))
+			c.add(agreesOn(t, x, d.FewSidesTurned(p)))
 		}
 	}
 	c.both(t, 200)
-}
-
-// fewTurned: the partition with one side turned, or two or three.
-func fewTurned(d *probe.Dice, p api.Partition) api.Partition {
-	p = slices.Clone(p)
-	for range 1 + d.Below(3) {
-		if len(p) > 0 {
-			p[d.Below(len(p))] *= -1 // what is 0 stays 0
-		}
-	}
-	return p
 }
 
 // TestGraphsTooFull: with one edge more than a planar graph can have none is planar; the words say so of every partition that one throws.
@@ -332,7 +290,7 @@ func TestGraphsTooFull(t *testing.T) {
 		x := slowly(g, walked(t, g))
 		answeredIsRight(t, x, false)
 		for range 5 {
-			if agreesOn(t, x, thrownPartition(&d, g, x.f)) {
+			if agreesOn(t, x, d.Partition(g, x.f)) {
 				t.Fatalf("the chapter: %v has a left-right partition", g)
 			}
 		}

@@ -26,6 +26,15 @@ func Lists[T any](items []T, most int) [][]T {
 // With: a graph as it is told, valid or not.
 func With(n int, edges ...api.Edge) api.Graph { return api.Graph{N: n, Edges: edges} }
 
+// OfEnds: a graph by the ends of its edges, two by two, as they are told.
+func OfEnds(n int, ends ...int) api.Graph {
+	g := api.Graph{N: n}
+	for i := 0; i < len(ends); i += 2 {
+		g.Edges = append(g.Edges, api.Edge{U: ends[i], V: ends[i+1]})
+	}
+	return g
+}
+
 // Graphs: all graphs of n vertices.
 func Graphs(n int) []api.Graph {
 	every := Complete(n).Edges
